@@ -1,0 +1,160 @@
+"""The form of the package's files, and with it point 2: nothing hangs on a clock, chance or files."""
+
+import ast
+import builtins
+import pathlib
+import re
+import unittest
+
+PACKAGE = pathlib.Path(__file__).resolve().parent.parent / "tuningyard"
+
+OWN_NAMES = set("""
+len range enumerate zip min max sum abs sorted reversed int str bool list tuple dict set frozenset isinstance ord
+repr any all divmod Exception ValueError TypeError KeyError IndexError LookupError ZeroDivisionError ArithmeticError
+OverflowError RuntimeError NotImplementedError AttributeError StopIteration
+""".split())
+
+METHODS = set("""
+append clear copy count endswith extend find get index insert isalnum isalpha isdigit islower isspace isupper items
+join keys ljust lower lstrip partition pop remove replace reverse rfind rjust rpartition rsplit rstrip setdefault
+split splitlines startswith strip update upper values zfill bit_length
+""".split())
+
+KINDS = set("""
+Module Expr Assign AugAssign If While For Return Break Continue Pass Raise Try ExceptHandler FunctionDef ClassDef
+arguments arg Lambda ImportFrom alias BinOp UnaryOp BoolOp Compare IfExp Call keyword Attribute Subscript Slice Name
+Constant List Tuple Dict Set ListComp comprehension JoinedStr FormattedValue Load Store
+Add Sub Mult FloorDiv Mod Pow BitAnd BitOr BitXor LShift RShift Invert USub UAdd Not And Or
+Eq NotEq Lt LtE Gt GtE Is IsNot In NotIn
+""".split())
+
+WORDS = re.compile(r"""\b(?:type|typing|typing_extensions|enum|Enum|IntEnum|StrEnum|Flag|IntFlag|Generic|Protocol
+|ABC|ABCMeta|namedtuple|NamedTuple|TypedDict|TYPE_CHECKING|abstractmethod)\b|dataclass|overload|contextmanager""", re.X)
+
+
+def trees():
+    """Each file of the package by its module's name, as a tree."""
+    found = {}
+    for path in sorted(PACKAGE.glob("*.py")):
+        found[f"tuningyard.{path.stem}"] = ast.parse(path.read_text(encoding="utf-8"))
+    return found
+
+
+def nodes():
+    """Each place of the package's files, as a pair (where, node)."""
+    return [
+        (f"{name}:{getattr(node, 'lineno', 0)}", node)
+        for name, tree in trees().items()
+        for node in ast.walk(tree)
+    ]
+
+
+def bound_at_top(tree):
+    """The names that a file defines at its top, imports left out."""
+    names = []
+    for statement in tree.body:
+        if isinstance(statement, (ast.FunctionDef, ast.ClassDef)):
+            names.append(statement.name)
+        elif isinstance(statement, ast.Assign):
+            names.extend(target.id for target in statement.targets)
+    return names
+
+
+class Files(unittest.TestCase):
+    def test_only_plain_files_lie_there(self):
+        for path in PACKAGE.iterdir():
+            if path.name != "__pycache__":
+                self.assertRegex(path.name, r"\A(__init__|[a-z][a-z0-9_]*)\.py\Z")
+
+    def test_signs_rows_and_words(self):
+        for path in PACKAGE.glob("*.py"):
+            text = path.read_bytes().decode("utf-8")
+            self.assertEqual([sign for sign in text if sign != "\n" and not " " <= sign <= "~"], [], path.name)
+            self.assertLessEqual(text.count("\n"), 400, path.name)
+            self.assertLessEqual(max(len(row) for row in text.split("\n")), 120, path.name)
+            self.assertIsNone(WORDS.search(text), path.name)
+
+
+class Imports(unittest.TestCase):
+    def test_own_modules_alone_from_the_defining_file(self):
+        found = trees()
+        for where, node in nodes():
+            if isinstance(node, ast.ImportFrom):
+                with self.subTest(where=where):
+                    self.assertEqual(node.level, 0)
+                    self.assertIn(node.module, found)
+                    for entry in node.names:
+                        self.assertIn(entry.name, bound_at_top(found[node.module]))
+
+    def test_no_two_files_draw_from_one_another(self):
+        draws = {
+            name: {node.module for node in ast.walk(tree) if isinstance(node, ast.ImportFrom)}
+            for name, tree in trees().items()
+        }
+        self.assertEqual(draws.pop("tuningyard.__init__"), set())
+        while draws:
+            ready = [name for name in draws if not draws[name] & set(draws)]
+            self.assertNotEqual(ready, [], draws)
+            for name in ready:
+                draws.pop(name)
+
+
+class Language(unittest.TestCase):
+    def test_kinds_of_statements_and_expressions(self):
+        for where, node in nodes():
+            self.assertIn(type(node).__name__, KINDS, where)
+
+    def test_values(self):
+        for where, node in nodes():
+            if isinstance(node, ast.Constant):
+                self.assertIn(type(node.value), (int, str, bool, type(None)), where)
+                self.assertNotIn("%", str(node.value), where)
+
+    def test_exponents_are_written(self):
+        for where, node in nodes():
+            if isinstance(node, ast.BinOp) and isinstance(node.op, ast.Pow):
+                self.assertIsInstance(node.right, ast.Constant, where)
+                self.assertIn(node.right.value, range(65), where)
+
+    def test_names_of_pythons_own(self):
+        for where, node in nodes():
+            if isinstance(node, ast.Name) and hasattr(builtins, node.id):
+                self.assertIsInstance(node.ctx, ast.Load, where)
+                self.assertIn(node.id, OWN_NAMES, where)
+            if isinstance(node, ast.arg):
+                self.assertFalse(hasattr(builtins, node.arg), where)
+
+    def test_names_are_plain(self):
+        for where, node in nodes():
+            names = [getattr(node, part, None) for part in ("id", "arg", "attr", "name")]
+            for name in names:
+                if name is not None and name != "__init__":
+                    self.assertFalse(name.startswith("_"), f"{where} {name}")
+
+    def test_names_are_bound_once_at_the_top(self):
+        for name, tree in trees().items():
+            names = bound_at_top(tree)
+            self.assertEqual(sorted(set(names)), sorted(names), name)
+
+    def test_methods(self):
+        own = {node.name for _, node in nodes() if isinstance(node, ast.FunctionDef)}
+        for where, node in nodes():
+            if isinstance(node, ast.Call) and isinstance(node.func, ast.Attribute):
+                self.assertIn(node.func.attr, METHODS | own, where)
+
+    def test_functions_are_small_and_plain(self):
+        for where, node in nodes():
+            if isinstance(node, ast.FunctionDef):
+                self.assertLessEqual(node.end_lineno - node.lineno + 1, 40, where)
+                self.assertEqual(node.decorator_list, [], where)
+                self.assertEqual((node.args.vararg, node.args.kwarg, node.args.kwonlyargs), (None, None, []), where)
+
+    def test_is_stands_beside_none_true_and_false(self):
+        for where, node in nodes():
+            if isinstance(node, ast.Compare) and any(isinstance(op, (ast.Is, ast.IsNot)) for op in node.ops):
+                self.assertIsInstance(node.comparators[-1], ast.Constant, where)
+                self.assertIn(node.comparators[-1].value, (None, True, False), where)
+
+
+if __name__ == "__main__":
+    unittest.main()

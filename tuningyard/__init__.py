@@ -1,0 +1,1 @@
+"""Tuningyard: tones as exact products of powers, and tunings told with papers."""
