@@ -32,6 +32,21 @@ WORDS = re.compile(r"""\b(?:type|typing|typing_extensions|enum|Enum|IntEnum|StrE
 |ABC|ABCMeta|namedtuple|NamedTuple|TypedDict|TYPE_CHECKING|abstractmethod)\b|dataclass|overload|contextmanager""", re.X)
 
 
+UNUSED = set("""
+register mro elements open input version_info with_traceback add_note attrgetter breakpoint builtins compile copyright
+credits delattr dir eval exec exit gc getattr globals hasattr help id importlib license locals methodcaller os quit
+setattr super type vars sys format format_map
+""".split())
+
+WALKERS = ("zip", "enumerate", "reversed", "range")
+WALKING_METHODS = ("items", "keys", "values")
+WALKED_FIRST_IN = ("list", "tuple", "dict", "sorted", "sum", "any", "all", "enumerate", "zip", "min", "max")
+KEYWORDS = {
+    "sorted": ("key", "reverse"), "min": ("key", "default"), "max": ("key", "default"), "sum": ("start",),
+    "enumerate": ("start",), "zip": ("strict",),
+}
+
+
 def trees():
     """Each file of the package by its module's name, as a tree."""
     found = {}
@@ -58,6 +73,23 @@ def bound_at_top(tree):
         elif isinstance(statement, ast.Assign):
             names.extend(target.id for target in statement.targets)
     return names
+
+
+def parents(tree):
+    """Each node's own parent."""
+    return {child: node for node in ast.walk(tree) for child in ast.iter_child_nodes(node)}
+
+
+def called(node):
+    """The plain name that a call calls, else None."""
+    return node.func.id if isinstance(node, ast.Call) and isinstance(node.func, ast.Name) else None
+
+
+def is_walker(node):
+    """Whether a node is a call whose answer is to be walked on the spot."""
+    if called(node) in WALKERS:
+        return True
+    return isinstance(node, ast.Call) and isinstance(node.func, ast.Attribute) and node.func.attr in WALKING_METHODS
 
 
 class Files(unittest.TestCase):
@@ -99,7 +131,86 @@ class Imports(unittest.TestCase):
                 draws.pop(name)
 
 
+class Tops(unittest.TestCase):
+    def test_only_plain_values_stand_at_the_top(self):
+        for name, tree in trees().items():
+            for statement in tree.body[1:]:
+                self.assertIsInstance(statement, (ast.ImportFrom, ast.FunctionDef, ast.ClassDef, ast.Assign), name)
+                if isinstance(statement, ast.Assign):
+                    plain = ast.literal_eval(statement.value)
+                    within = plain.values() if isinstance(plain, dict) else plain if isinstance(plain, list) else []
+                    self.assertFalse([entry for entry in within if isinstance(entry, (list, dict, set))], name)
+
+    def test_each_file_begins_with_its_docstring(self):
+        for name, tree in trees().items():
+            self.assertIsNotNone(ast.get_docstring(tree), name)
+
+    def test_classes_hold_methods_alone(self):
+        for where, node in nodes():
+            if isinstance(node, ast.ClassDef):
+                self.assertLessEqual(len(node.bases), 1, where)
+                self.assertIsNotNone(ast.get_docstring(node), where)
+                for statement in node.body[1:]:
+                    self.assertIsInstance(statement, ast.FunctionDef, where)
+
+    def test_no_parameter_or_local_is_called_like_an_import_or_a_class(self):
+        for name, tree in trees().items():
+            taken = {entry.name for node in tree.body if isinstance(node, ast.ImportFrom) for entry in node.names}
+            taken |= {node.name for node in tree.body if isinstance(node, (ast.ClassDef, ast.FunctionDef))}
+            for node in ast.walk(tree):
+                if isinstance(node, ast.Name) and isinstance(node.ctx, ast.Store):
+                    self.assertNotIn(node.id, taken, f"{name}:{node.lineno}")
+                if isinstance(node, ast.arg):
+                    self.assertNotIn(node.arg, taken, f"{name}:{node.lineno}")
+
+
 class Language(unittest.TestCase):
+    def test_one_target_in_an_assignment(self):
+        for where, node in nodes():
+            if isinstance(node, ast.Assign):
+                self.assertEqual(len(node.targets), 1, where)
+                self.assertIsInstance(node.targets[0], (ast.Name, ast.Attribute, ast.Subscript), where)
+
+    def test_no_annotations(self):
+        for where, node in nodes():
+            if isinstance(node, ast.arg):
+                self.assertIsNone(node.annotation, where)
+            if isinstance(node, ast.FunctionDef):
+                self.assertIsNone(node.returns, where)
+
+    def test_names_that_are_not_used(self):
+        for where, node in nodes():
+            for name in [getattr(node, part, None) for part in ("id", "arg", "attr", "name")]:
+                self.assertNotIn(name, UNUSED, where)
+
+    def test_walked_on_the_spot(self):
+        for name, tree in trees().items():
+            above = parents(tree)
+            for node in ast.walk(tree):
+                if is_walker(node):
+                    parent = above[node]
+                    walked = isinstance(parent, (ast.For, ast.comprehension)) and parent.iter is node
+                    first = called(parent) in WALKED_FIRST_IN and parent.args[0] is node
+                    self.assertTrue(walked or first, f"{name}:{node.lineno}")
+
+    def test_keywords(self):
+        own = {name for tree in trees().values() for name in bound_at_top(tree)}
+        for where, node in nodes():
+            if isinstance(node, ast.Call) and node.keywords and called(node) not in own:
+                for keyword in node.keywords:
+                    self.assertIn(keyword.arg, KEYWORDS.get(called(node), ()), where)
+
+    def test_comprehensions_walk_once(self):
+        for where, node in nodes():
+            if isinstance(node, ast.ListComp):
+                self.assertEqual(len(node.generators), 1, where)
+                self.assertLessEqual(len(node.generators[0].ifs), 1, where)
+
+    def test_no_sets_are_kept(self):
+        for where, node in nodes():
+            self.assertNotIsInstance(node, ast.Set, where)
+            self.assertNotIn(called(node), ("set", "frozenset", "chr"), where)
+
     def test_kinds_of_statements_and_expressions(self):
         for where, node in nodes():
             self.assertIn(type(node).__name__, KINDS, where)
