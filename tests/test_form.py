@@ -38,6 +38,11 @@ credits delattr dir eval exec exit gc getattr globals hasattr help id importlib 
 setattr super type vars sys format format_map
 """.split())
 
+# Values of an object may also be called like these methods of Python's own values, and like no others.
+FIELDS_TOO = set("count index title find get join lower upper split strip copy add".split())
+METHODS_TOO = METHODS | {"add", "discard"}
+PYTHONS_OWN = {name for kind in (str, int, list, dict, set, tuple, bytes, ValueError) for name in dir(kind)}
+
 WALKERS = ("zip", "enumerate", "reversed", "range")
 WALKING_METHODS = ("items", "keys", "values")
 WALKED_FIRST_IN = ("list", "tuple", "dict", "sorted", "sum", "any", "all", "enumerate", "zip", "min", "max")
@@ -92,11 +97,36 @@ def is_walker(node):
     return isinstance(node, ast.Call) and isinstance(node.func, ast.Attribute) and node.func.attr in WALKING_METHODS
 
 
+def classes():
+    """Each class of the package by its name."""
+    return {node.name: node for _, node in nodes() if isinstance(node, ast.ClassDef)}
+
+
+def methods_of(node):
+    """The names of a class's methods."""
+    return [statement.name for statement in node.body if isinstance(statement, ast.FunctionDef)]
+
+
+def fields():
+    """The names of all values that are given to an object, each with its place."""
+    return [
+        (where, node.attr) for where, node in nodes()
+        if isinstance(node, ast.Attribute) and isinstance(node.ctx, ast.Store)
+    ]
+
+
+def names_in(node):
+    """The names of a handler's error classes."""
+    return [entry.id for entry in (node.elts if isinstance(node, ast.Tuple) else [node])]
+
+
 class Files(unittest.TestCase):
     def test_only_plain_files_lie_there(self):
         for path in PACKAGE.iterdir():
             if path.name != "__pycache__":
                 self.assertRegex(path.name, r"\A(__init__|[a-z][a-z0-9_]*)\.py\Z")
+                self.assertNotIn(path.stem, [name for name in dir(builtins) if not name.startswith("_")])
+                self.assertNotRegex(path.stem, r"\A(test.*|site|conftest|sitecustomize|usercustomize)\Z")
 
     def test_signs_rows_and_words(self):
         for path in PACKAGE.glob("*.py"):
@@ -164,7 +194,97 @@ class Tops(unittest.TestCase):
                     self.assertNotIn(node.arg, taken, f"{name}:{node.lineno}")
 
 
+class Objects(unittest.TestCase):
+    def test_methods_stand_once_and_have_free_names(self):
+        for name, node in classes().items():
+            found = methods_of(node)
+            self.assertEqual(sorted(set(found)), sorted(found), name)
+            for method in found:
+                if method != "__init__":
+                    self.assertNotIn(method, PYTHONS_OWN - METHODS_TOO, name)
+
+    def test_values_have_free_names(self):
+        self.assertNotEqual(fields(), [])
+        for where, name in fields():
+            self.assertNotIn(name, PYTHONS_OWN - FIELDS_TOO, where)
+
+    def test_no_name_is_a_method_and_a_value(self):
+        methods = {name for node in classes().values() for name in methods_of(node)}
+        self.assertEqual([(where, name) for where, name in fields() if name in methods], [])
+
+    def test_values_are_given_through_local_names(self):
+        tops = {name for tree in trees().values() for name in bound_at_top(tree)}
+        for where, node in nodes():
+            if isinstance(node, ast.Attribute) and isinstance(node.ctx, ast.Store):
+                self.assertIsInstance(node.value, ast.Name, where)
+                self.assertNotIn(node.value.id, tops, where)
+
+    def test_classes_are_called_or_taken_but_not_kept(self):
+        own = set(classes())
+        for name, tree in trees().items():
+            above = parents(tree)
+            for node in ast.walk(tree):
+                if isinstance(node, ast.Name) and node.id in own:
+                    parent = above[node]
+                    if isinstance(parent, ast.Tuple):
+                        parent = above[parent]
+                    made = isinstance(parent, ast.Call) and parent.func is node
+                    asked = called(parent) == "isinstance"
+                    base = isinstance(parent, ast.Attribute) and parent.attr == "__init__"
+                    stands = isinstance(parent, (ast.ClassDef, ast.ExceptHandler))
+                    self.assertTrue(made or asked or base or stands, f"{name}:{node.lineno}")
+
+    def test_init_gives_back_nothing(self):
+        for where, node in nodes():
+            if isinstance(node, ast.FunctionDef) and node.name == "__init__":
+                self.assertFalse([entry for entry in ast.walk(node) if isinstance(entry, ast.Return)], where)
+
+
+class Errors(unittest.TestCase):
+    def test_own_errors_alone_are_taken(self):
+        own = set(bound_at_top(trees()["tuningyard.errors"]))
+        for where, node in nodes():
+            if isinstance(node, ast.ExceptHandler):
+                self.assertLessEqual(set(names_in(node.type)), own, where)
+            if isinstance(node, ast.Try):
+                self.assertEqual(node.finalbody, [], where)
+
+    def test_raised_on_the_spot(self):
+        own = set(bound_at_top(trees()["tuningyard.errors"]))
+        for where, node in nodes():
+            if isinstance(node, ast.Raise):
+                self.assertIn(called(node.exc), own, where)
+                if node.cause is not None:
+                    self.assertIsInstance(node.cause, ast.Constant, where)
+
+
 class Language(unittest.TestCase):
+    def test_lambdas_with_the_same_parameters_stand_on_lines_of_their_own(self):
+        seen = [
+            (where, tuple(entry.arg for entry in node.args.args))
+            for where, node in nodes() if isinstance(node, ast.Lambda)
+        ]
+        self.assertEqual(len(set(seen)), len(seen))
+
+    def test_what_a_loop_walks_is_not_changed_in_it(self):
+        changing = ("append", "clear", "extend", "insert", "pop", "remove", "reverse", "setdefault", "update")
+        for where, node in nodes():
+            if isinstance(node, ast.For):
+                walked = {entry.id for entry in ast.walk(node.iter) if isinstance(entry, ast.Name)}
+                for entry in [entry for statement in node.body for entry in ast.walk(statement)]:
+                    if isinstance(entry, ast.Attribute) and entry.attr in changing:
+                        self.assertNotIn(getattr(entry.value, "id", None), walked, where)
+                    if isinstance(entry, ast.Subscript) and isinstance(entry.ctx, ast.Store):
+                        self.assertNotIn(getattr(entry.value, "id", None), walked, where)
+
+    def test_methods_are_called_where_they_stand(self):
+        for name, tree in trees().items():
+            above = parents(tree)
+            own = {method for node in classes().values() for method in methods_of(node)}
+            for node in ast.walk(tree):
+                if isinstance(node, ast.Attribute) and node.attr in own | METHODS:
+                    self.assertIs(getattr(above[node], "func", None), node, f"{name}:{node.lineno}")
+
     def test_one_target_in_an_assignment(self):
         for where, node in nodes():
             if isinstance(node, ast.Assign):

@@ -1,4 +1,4 @@
-"""Whole numbers and fractions as texts hold them."""
+"""Whole numbers and fractions: as texts hold them, and in lowest terms."""
 
 
 def is_counting(text, most):
@@ -22,3 +22,21 @@ def parts_read(text, most):
     if len(parts) != 2 or not all([is_counting(part, most) for part in parts]):
         return None
     return (int(parts[0]), int(parts[1]))
+
+
+def divisor_of(numbers):
+    """The greatest whole number that divides all the numbers, 0 where all are 0."""
+    found = 0
+    for number in numbers:
+        other = abs(number)
+        while other != 0:
+            left = found % other
+            found = other
+            other = left
+    return found
+
+
+def lowest(top, bottom):
+    """The fraction of two whole numbers in lowest terms, as a pair."""
+    divisor = divisor_of((top, bottom))
+    return (top // divisor, bottom // divisor)

@@ -1,5 +1,6 @@
 """Keys' values, and the paper that shows whether a row is made by commas."""
 
+from tuningyard.figures import divisor_of
 from tuningyard.rows import ONE
 from tuningyard.tables import WIDTH, lead_place, rest_and_powers, table, unit
 
@@ -13,18 +14,6 @@ def value(key, row):
     """The row's value by the key: the sum of the products, or what is left of it by the ring."""
     total = heard(key[0], row)
     return total if key[1] == 0 else total % key[1]
-
-
-def divisor_of(numbers):
-    """The greatest whole number that divides all the numbers, 0 where all are 0."""
-    found = 0
-    for number in numbers:
-        other = abs(number)
-        while other != 0:
-            left = found % other
-            found = other
-            other = left
-    return found
 
 
 def by_place(steps):

@@ -76,11 +76,17 @@ def table_powers(commas):
     return [list(vector[WIDTH:]) for vector in marked_table(commas)]
 
 
+def left_by(steps, vector):
+    """What is left of a vector where each lead of a table by steps is taken away as often as it can be."""
+    left = vector
+    for step in steps:
+        left = lowered(left, step, lead_place(step[:WIDTH]))
+    return left
+
+
 def rest_and_powers(commas, row):
     """The rest of a row by commas, and powers of the commas that make the row divided by its rest."""
-    left = row + tuple([0 for comma in commas])
-    for step in marked_table(commas):
-        left = lowered(left, step, lead_place(step[:WIDTH]))
+    left = left_by(marked_table(commas), row + tuple([0 for comma in commas]))
     return (left[:WIDTH], [-number for number in left[WIDTH:]])
 
 
