@@ -80,6 +80,17 @@ def bound_at_top(tree):
     return names
 
 
+def functions_as_texts(tree, statement):
+    """An assignment's value, with a text in the place of each name of a function that is defined above it."""
+    above = [entry.name for entry in tree.body[:tree.body.index(statement)] if isinstance(entry, ast.FunctionDef)]
+
+    class Texts(ast.NodeTransformer):
+        def visit_Name(self, node):
+            return ast.Constant(node.id) if node.id in above else node
+
+    return Texts().visit(statement.value)
+
+
 def parents(tree):
     """Each node's own parent."""
     return {child: node for node in ast.walk(tree) for child in ast.iter_child_nodes(node)}
@@ -167,7 +178,7 @@ class Tops(unittest.TestCase):
             for statement in tree.body[1:]:
                 self.assertIsInstance(statement, (ast.ImportFrom, ast.FunctionDef, ast.ClassDef, ast.Assign), name)
                 if isinstance(statement, ast.Assign):
-                    plain = ast.literal_eval(statement.value)
+                    plain = ast.literal_eval(functions_as_texts(tree, statement))
                     within = plain.values() if isinstance(plain, dict) else plain if isinstance(plain, list) else []
                     self.assertFalse([entry for entry in within if isinstance(entry, (list, dict, set))], name)
 

@@ -16,24 +16,24 @@ def sounding_read(text):
     return None if text == REST else named(text)
 
 
-def note_read(word, bar, place):
+def note_read(word, number, place):
     """The note of a word, the one at this place of the bar with this number."""
     # Without `=` nothing stands in the length's place, which is no length.
     parts = word.partition("=")
     try:
         return (sounding_read(parts[0]), length_read(parts[2]))
     except (NoName, TooFar, NoLength):
-        raise BadNote(bar, place) from None
+        raise BadNote(number, place) from None
 
 
-def bar_read(text, bar, meter):
+def bar_read(text, number, meter):
     """The notes of a bar, the one with this number, which come to the meter."""
     words = text.split(" ")
     if len(words) > MOST_NOTES:
-        raise BadBar(bar)
-    notes = [note_read(word, bar, place) for place, word in enumerate(words)]
+        raise BadBar(number)
+    notes = [note_read(word, number, place) for place, word in enumerate(words)]
     if summed([note[1] for note in notes]) != meter:
-        raise BadBar(bar)
+        raise BadBar(number)
     return notes
 
 
@@ -54,7 +54,7 @@ def tune_read(text):
     texts = parts[2].split(BAR_LINE)
     if len(texts) > MOST_BARS:
         raise NoTune("a tune has at most 40 bars")
-    return (meter, [bar_read(bar_part, bar, meter) for bar, bar_part in enumerate(texts)])
+    return (meter, [bar_read(bar, number, meter) for number, bar in enumerate(texts)])
 
 
 def note_text(note):
